@@ -1,0 +1,1 @@
+"""Ropeclock: moments measured by ropes that burn unevenly."""
