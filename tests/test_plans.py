@@ -20,6 +20,10 @@ class TestOuts(unittest.TestCase):
         self.assertEqual(outs([(-1, None)]), [(1, 1)])
         self.assertEqual(outs([(-1, -1)]), [(1, 2)])
 
+    def test_argument_names(self):
+        self.assertEqual(outs(plan=[(-1, -1)]), [(1, 2)])
+        self.assertEqual(len(book(plan=[(-1, -1)])), 2)
+
     def test_told_kinds(self):
         told = outs([(-1, -1), (0, None)])
         self.assertIs(type(told), list)

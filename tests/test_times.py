@@ -19,6 +19,12 @@ class TestTimes(unittest.TestCase):
         # Compared without assertEqual: it would write out very large numbers.
         self.assertTrue(told == wanted, "another moment is asked")
 
+    def test_argument_names(self):
+        self.check(mean_and_half(one=(0, 1), other=(1, 2)), (3, 4))
+        self.check(hour_behind(one=(1, 2)), (3, 2))
+        self.check(between(one=(0, 1), other=(1, 2)), (1, 2))
+        self.assertIs(earlier(one=(0, 1), other=(1, 2)), True)
+
     def test_mean_and_half(self):
         self.check(mean_and_half((0, 1), (0, 1)), (1, 2))
         self.check(mean_and_half((0, 1), (1, 2)), (3, 4))
