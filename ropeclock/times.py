@@ -22,6 +22,11 @@ def between(one, other):
     return lowest(abs(top_over(one, bottom) - top_over(other, bottom)), bottom)
 
 
+# No time where the other is not later.
+def stretch_from(one, other):
+    return between(one, other) if earlier(one, other) else START
+
+
 def in_order(moments):
     bottom = max([moment[1] for moment in moments], default=1)
     return sorted(moments, key=lambda moment: top_over(moment, bottom))

@@ -1,9 +1,18 @@
 import unittest
 
+from ropeclock.burning import left
 from ropeclock.errors import Late, NoPlan, RopeError
+from ropeclock.notes import read
 from ropeclock.plans import book, outs
 
 LATE = [(-1, None), (-1, 0)]
+
+
+def left_at_once(plan):
+    return left(plan, (0, 1))
+
+
+ASKED = (outs, book, left_at_once)
 
 
 class TestErrors(unittest.TestCase):
@@ -33,7 +42,7 @@ class TestErrors(unittest.TestCase):
             raise NoPlan("words")
 
     def test_late_plan_is_taken_by_each_of_its_classes(self):
-        for ask in (outs, book):
+        for ask in ASKED:
             for kind in (Late, RopeError, ValueError):
                 with self.assertRaises(kind) as taken:
                     ask(LATE)
@@ -41,7 +50,7 @@ class TestErrors(unittest.TestCase):
                 self.assertEqual(taken.exception.rope, 1)
 
     def test_late_plan_is_not_taken_as_no_plan(self):
-        for ask in (outs, book):
+        for ask in ASKED:
             try:
                 ask(LATE)
             except NoPlan:
@@ -50,6 +59,22 @@ class TestErrors(unittest.TestCase):
                 self.assertEqual(late.rope, 1)
             else:
                 self.fail("not refused")
+
+    def test_text_that_is_no_plan_is_taken_by_each_of_its_classes(self):
+        for kind in (NoPlan, RopeError, ValueError):
+            with self.assertRaises(kind) as taken:
+                read("a")
+            self.assertIs(type(taken.exception), NoPlan)
+
+    def test_text_that_is_no_plan_is_not_taken_as_late(self):
+        try:
+            read("a")
+        except Late:
+            self.fail("taken as Late")
+        except NoPlan:
+            pass
+        else:
+            self.fail("not refused")
 
 
 if __name__ == "__main__":

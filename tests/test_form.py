@@ -85,6 +85,13 @@ class TestForm(unittest.TestCase):
                     self.assertEqual(node.orelse, [], where)
                 if isinstance(node, (ast.FunctionDef, ast.ClassDef)):
                     self.assertEqual(node.decorator_list, [], where)
+                if isinstance(node, ast.ListComp):
+                    self.assertEqual(len(node.generators), 1, where)
+                    self.assertLessEqual(len(node.generators[0].ifs), 1, where)
+                if isinstance(node, ast.Compare) and isinstance(node.ops[0], (ast.Is, ast.IsNot)):
+                    self.assertIsInstance(node.comparators[0], ast.Constant, where)
+                if isinstance(node, ast.Constant) and isinstance(node.value, str):
+                    self.assertNotIn("%", node.value, where)
                 if isinstance(node, ast.Try):
                     self.assertEqual(node.finalbody, [], where)
 

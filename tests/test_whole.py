@@ -1,7 +1,10 @@
 import unittest
 
+from ropeclock.burning import left
 from ropeclock.errors import Late
+from ropeclock.notes import read, shown
 from ropeclock.plans import book, outs
+from ropeclock.reach import first_plan, measured, next_moment
 from ropeclock.times import earlier
 from walking import all_plans, as_told, burn, some_good_plans, some_plans
 
@@ -67,6 +70,32 @@ class TestAdded(unittest.TestCase):
             self.assertFalse(any(earlier(last[0], moment) for moment in told))
             self.assertEqual(last[1], [rope for rope, moment in enumerate(told) if moment == last[0]])
             self.assertEqual(last[2], [])
+
+
+class TestTogether(unittest.TestCase):
+    def test_first_plans_written_read_and_burnt(self):
+        for most in range(1, 5):
+            for moment in measured(most):
+                plan = read(shown(first_plan(moment, most)))
+                self.assertEqual(outs(plan)[-1], moment)
+                self.assertEqual(left(plan, moment)[-1], (0, 1))
+
+    def test_every_plan_measures_one_of_the_moments(self):
+        for length in range(1, 5):
+            moments = measured(length)
+            for plan in all_plans(length):
+                told = answer(outs, plan)[0]
+                if told is not None:
+                    self.assertTrue(all(moment in moments for moment in told))
+
+    def test_a_changed_first_plan_is_burnt_as_changed(self):
+        plan = first_plan((3, 4), 4)
+        plan.append((1, None))
+        self.assertEqual(outs(plan), [(1, 2), (3, 4), (7, 4)])
+        self.assertEqual(left(plan, (1, 1)), [(0, 1), (0, 1), (3, 4)])
+        self.assertEqual(shown(plan), "o+o, o+a, b")
+        self.assertEqual(first_plan((3, 4), 4), [(-1, -1), (-1, 0)])
+        self.assertEqual(next_moment((3, 4), 2), (1, 1))
 
 
 if __name__ == "__main__":

@@ -46,6 +46,22 @@ def burn(plan):
     return moments, sorted(late)
 
 
+def ticked(plan, ticks):
+    """What is left of each rope at each tick of 1/ticks hours, in ticks, till two ticks behind the last going out."""
+    left = [ticks] * len(plan)
+    lit = [[end == -1 for end in rope] for rope in plan]
+    rows = [list(left)]
+    while len(rows) < 3 or any(rows[-3]):
+        for number in range(len(plan)):
+            left[number] = max(0, left[number] - sum(lit[number]))
+        for number, rope in enumerate(plan):
+            for side in (0, 1):
+                if rope[side] is not None and rope[side] >= 0 and left[rope[side]] == 0:
+                    lit[number][side] = True
+        rows.append(list(left))
+    return rows
+
+
 def some_plans(length, count, seed):
     """Plans of so many ropes, the same ones at each run; late ones among them."""
     source = random.Random(seed)
